@@ -1,0 +1,1 @@
+"""Which rules of arithmetic hold in which floating-point formats."""
