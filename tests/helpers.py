@@ -7,6 +7,7 @@ they share no code with the package.
 from fractions import Fraction
 from functools import lru_cache
 
+from rulesheld.desks import Desk
 from rulesheld.errors import BadFormat, RuleError
 
 MODES = ("even", "away", "down", "up", "zero")
@@ -20,6 +21,7 @@ STRANGE = (
     "", "even", "inf", "-inf", "0", True, False, None, [], {}, [1, 0], [(1, 0)], {1: 0},
     [4, -6, 4, "even", "gradual", "infinite"], {"sum sign": 2}, ["sum sign"],
     ((),), (None,), (True, False), ((1, 0), None, [], {}), BadFormat("x"), RuleError(),
+    Desk(EXAMPLE), (Desk(EXAMPLE), 0),
 )
 
 

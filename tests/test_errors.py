@@ -3,12 +3,17 @@
 import unittest
 
 from rulesheld import errors
+from rulesheld.decisions import counterexample, holds
+from rulesheld.desks import Desk
 from rulesheld.errors import (
-    BadDyadic, BadFormat, BadFraction, BadNumber, BadNumbers, BadRule, NotMade, RuleError,
+    BadChoice, BadDyadic, BadFormat, BadFraction, BadNumber, BadNumbers, BadRule, BadRules, InvalidText, NotMade,
+    NothingToUndo, NotNow, NotText, RuleError,
 )
 from rulesheld.formats import count_numbers, is_number, largest, next_up, smallest, smallest_normal
 from rulesheld.operations import add, divide, multiply, round_to, square_root, subtract
+from rulesheld.profiles import greatest_span, implies, parting, profile
 from rulesheld.rules import arity, holds_for
+from rulesheld.texts import read_number, write_number
 
 from tests.helpers import EXAMPLE, STRANGE
 
@@ -55,6 +60,11 @@ class Order(unittest.TestCase):
             self.check(BadFormat, square_root, form, None)
             self.check(BadFormat, square_root, form, (-1, 0))
             self.check(BadFormat, holds_for, form, "no rule", None)
+            self.check(BadFormat, profile, form)
+            self.check(BadFormat, Desk, form)
+            for function in (holds, counterexample):
+                self.check(BadFormat, function, form, "no rule")
+                self.check(BadFormat, function, form, "average")
 
     def test_is_number_has_one_error_for_its_value_and_next_up_another(self):
         for value in STRANGE + ((2, 0), (0, 1)):
@@ -82,13 +92,56 @@ class Order(unittest.TestCase):
             self.check(BadRule, holds_for, EXAMPLE, rule, None)
             self.check(BadRule, holds_for, EXAMPLE, rule, (ONE, ONE))
             self.check(BadRule, arity, rule)
+            for function in (holds, counterexample):
+                self.check(BadRule, function, EXAMPLE, rule)
+            for function in (implies, parting):
+                self.check(BadRule, function, rule, "halves")
+                self.check(BadRule, function, "halves", rule)
         self.check(BadNumbers, holds_for, EXAMPLE, "halves", None)
+
+    def test_a_choice_comes_before_the_rules(self):
+        for value in STRANGE:
+            self.check(BadChoice, greatest_span, value, "even", "flush", "largest", None)
+            self.check(BadChoice, greatest_span, 4, "even", value, "largest", None)
+            self.check(BadChoice, greatest_span, 4, "even", "flush", value, None)
+            self.check(BadRules, greatest_span, 4, "even", "flush", "largest", value)
+        self.check(BadChoice, greatest_span, 4, "Even", "flush", "largest", ("halves", "halves"))
+
+    def test_texts_and_lines(self):
+        desk = Desk(EXAMPLE)
+        for value in STRANGE:
+            if value not in ("inf", "-inf"):
+                self.check(BadDyadic, write_number, value)
+            if not isinstance(value, str):
+                self.check(NotText, read_number, value)
+                self.check(NotText, desk.run, value)
+        self.check(InvalidText, read_number, "even")
+        self.check(InvalidText, desk.run, "even")
+        # no line comes before what is not possible now
+        desk.run("load -1*2^0")
+        self.check(InvalidText, desk.run, "root 0")
+        self.check(NotNow, desk.run, "root")
+        self.check(InvalidText, desk.run, "divide 0*2^0")
+        self.check(NotNow, desk.run, "divide 0")
+        desk.undo()
+        self.check(NothingToUndo, desk.undo)
 
     def test_a_call_that_fails_leaves_its_arguments_as_they_are(self):
         form, rule, numbers = list(EXAMPLE), ["halves"], [[1, 0]]
         self.check(BadFormat, holds_for, form, rule, numbers)
         self.check(BadRule, holds_for, EXAMPLE, rule, numbers)
         self.check(BadNumbers, holds_for, EXAMPLE, "halves", numbers)
+        for function in (holds, counterexample):
+            self.check(BadFormat, function, form, rule)
+            self.check(BadRule, function, EXAMPLE, rule)
+        for function in (implies, parting):
+            self.check(BadRule, function, rule, rule)
+        for function in (profile, Desk):
+            self.check(BadFormat, function, form)
+        self.check(BadRules, greatest_span, 4, "even", "flush", "largest", rule)
+        self.check(BadDyadic, write_number, numbers)
+        self.check(NotText, read_number, rule)
+        self.check(NotText, Desk(EXAMPLE).run, rule)
         self.assertEqual((form, rule, numbers), (list(EXAMPLE), ["halves"], [[1, 0]]))
 
 

@@ -3,18 +3,26 @@
 import unittest
 from importlib import import_module
 
-from rulesheld.errors import BadNumber, BadNumbers, NotMade
+from rulesheld.decisions import counterexample, holds
+from rulesheld.desks import Desk
+from rulesheld.errors import BadChoice, BadNumber, BadNumbers, BadRule, InvalidText, NotMade, NotNow
 from rulesheld.formats import (
     count_numbers, is_dyadic, is_format, is_number, largest, next_up, smallest, smallest_normal,
 )
 from rulesheld.operations import add, divide, multiply, round_to, square_root, subtract
+from rulesheld.profiles import greatest_span, implies, parting, profile, profiles
 from rulesheld.rules import arity, holds_for, rules
+from rulesheld.texts import read_number, write_number
 
 INTERFACE = {
     "formats": ("is_format", "is_dyadic", "is_number", "largest", "smallest_normal", "smallest", "count_numbers",
                 "next_up"),
     "operations": ("round_to", "add", "subtract", "multiply", "divide", "square_root"),
     "rules": ("rules", "arity", "holds_for"),
+    "decisions": ("holds", "counterexample"),
+    "profiles": ("profile", "profiles", "implies", "parting", "greatest_span"),
+    "texts": ("write_number", "read_number"),
+    "desks": ("Desk",),
 }
 
 
@@ -55,6 +63,42 @@ class Examples(unittest.TestCase):
             [14, 3, False, True])
         with self.assertRaises(BadNumbers):
             holds_for(form, "halves", ())
+
+    def test_decisions(self):
+        form = self.form
+        self.assertEqual(
+            [holds(form, "midpoint"), holds(form, "error term"), counterexample(form, "error term"),
+             counterexample(form, "midpoint"), counterexample(form, "third")],
+            [True, False, ((15, 4), (15, 4)), None, ((7, -5),)])
+        with self.assertRaises(BadRule):
+            holds(form, "Midpoint")
+
+    def test_profiles(self):
+        form = self.form
+        self.assertEqual(
+            [profile(form), len(profiles()), implies("close difference", "sum sign"),
+             parting("sum sign", "close difference"),
+             greatest_span(6, "zero", "gradual", "infinite", ("fast error",))],
+            [("sum sign", "zero difference", "close difference", "symmetry", "midpoint", "average"), 48, True,
+             (4, -40, -40, "up", "flush", "infinite"), 6])
+        with self.assertRaises(BadChoice):
+            greatest_span(3, "zero", "gradual", "infinite", ())
+
+    def test_texts(self):
+        self.assertEqual(
+            [write_number((-3, -2)), write_number((0, 0)), read_number("5*2^7"), read_number("-inf")],
+            ["-3*2^-2", "0", (5, 7), "-inf"])
+        with self.assertRaises(InvalidText):
+            read_number("4*2^0")
+
+    def test_desks(self):
+        desk = Desk(self.form)
+        self.assertEqual(
+            [desk.run("load 15*2^4"), desk.run("add 15*2^4"), desk.run("show"), desk.undo(), desk.value,
+             desk.run("rules")],
+            [None, None, "inf", None, (15, 4), "6"])
+        with self.assertRaises(NotNow):
+            desk.run("divide 0")
 
 
 if __name__ == "__main__":
